@@ -23,6 +23,22 @@ func WithMultiples(rows []number.Row) []number.Row {
 	return Form(number.Beside(rows, number.Identity(len(rows))))
 }
 
+// Kernel returns the form of all multiples of some rows of the same length whose sum is zero.
+func Kernel(rows []number.Row) []number.Row {
+	var kernel []number.Row
+	for column, r := range Pivots(WithMultiples(rows)) {
+		if width := len(r) - len(rows); column >= width {
+			kernel = append(kernel, r[width:])
+		}
+	}
+	return kernel
+}
+
+// Annihilator returns the form of all rows of integers with so many columns whose dot products with some rows are 0. That of the annihilator is the saturation: all rows of integers that are sums of rational multiples of the rows.
+func Annihilator(rows []number.Row, columns int) []number.Row {
+	return Kernel(number.Transpose(rows, columns))
+}
+
 // Pivots yields the columns of the pivots with their rows.
 func Pivots(form []number.Row) iter.Seq2[int, number.Row] {
 	return func(yield func(column int, r number.Row) bool) {

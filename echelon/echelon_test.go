@@ -82,6 +82,53 @@ func TestForm(t *testing.T) {
 	}
 }
 
+func TestKernel(t *testing.T) {
+	r := rand.New(rand.NewPCG(7, 10))
+	for range 300 {
+		rows := random(r, 1+r.IntN(4), r.IntN(4))
+		width := len(rows[0])
+		kernel := echelon.Kernel(rows)
+		if !isForm(kernel) || len(kernel)+len(echelon.Form(rows)) != len(rows) {
+			t.Errorf("Kernel(%v) = %v", rows, kernel)
+		}
+		for _, multiples := range kernel {
+			for _, column := range number.Transpose(rows, width) {
+				if !number.Dot(multiples, column).IsZero() {
+					t.Errorf("Kernel(%v) = %v", rows, kernel)
+				}
+			}
+		}
+		annihilator := echelon.Annihilator(rows, width)
+		if !slices.EqualFunc(annihilator, echelon.Kernel(number.Transpose(rows, width)), slices.Equal) {
+			t.Errorf("Annihilator(%v) = %v", rows, annihilator)
+		}
+		// The saturation has all rows, and it is its own saturation.
+		saturation := echelon.Annihilator(annihilator, width)
+		for _, x := range rows {
+			if rest, _ := echelon.Reduce(saturation, x); rest.Pivot() >= 0 {
+				t.Errorf("the saturation %v lacks %v", saturation, x)
+			}
+		}
+		if len(saturation)+len(annihilator) != width || !slices.EqualFunc(echelon.Annihilator(saturation, width), annihilator, slices.Equal) {
+			t.Errorf("%v has the annihilator %v and the saturation %v", rows, annihilator, saturation)
+		}
+	}
+	if got := echelon.Kernel(nil); len(got) != 0 {
+		t.Errorf("Kernel of no rows = %v", got)
+	}
+	for columns := range 4 {
+		if got := echelon.Annihilator(nil, columns); !slices.EqualFunc(got, number.Identity(columns), slices.Equal) {
+			t.Errorf("Annihilator of no rows = %v", got)
+		}
+	}
+	// A saturation that is known.
+	rows := []number.Row{{long(2), long(4), long(0)}, {number.Of(0), number.Of(3), number.Of(6)}}
+	want := []number.Row{{number.Of(1), number.Of(0), number.Of(-4)}, {number.Of(0), number.Of(1), number.Of(2)}}
+	if got := echelon.Annihilator(echelon.Annihilator(rows, 3), 3); !slices.EqualFunc(got, want, slices.Equal) {
+		t.Errorf("saturation %v", got)
+	}
+}
+
 func TestReduce(t *testing.T) {
 	form := []number.Row{{number.Of(2), number.Of(1), long(1)}, {number.Of(0), number.Of(3), number.Of(7)}}
 	x := number.Row{number.Of(5), number.Of(-1), number.Of(0)}

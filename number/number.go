@@ -47,6 +47,14 @@ func (a Number) Entry() (n int, is bool) {
 	return a.short, true
 }
 
+// Check returns ErrNumber if a number has more digits than a right integer.
+func (a Number) Check() api.Errno {
+	if a.long == "" {
+		return api.OK
+	}
+	return whole.Check(a.long)
+}
+
 // Sign returns -1, 0 or 1.
 func (a Number) Sign() int {
 	switch {

@@ -4,6 +4,8 @@ import (
 	"math"
 	"math/big"
 	"math/rand/v2"
+	"slices"
+	"strings"
 	"testing"
 
 	"schisma/api"
@@ -70,6 +72,21 @@ func TestSingle(t *testing.T) {
 		expect(t, "Abs", a, a, a.Abs(), new(big.Int).Abs(v))
 		if _, is := a.Entry(); is != (v.CmpAbs(big.NewInt(api.MaxEntry)) <= 0) {
 			t.Errorf("Entry of %v: %t", v, is)
+		}
+	}
+}
+
+func TestCheck(t *testing.T) {
+	for _, c := range []struct {
+		digits string
+		want   api.Errno
+	}{
+		{"0", api.OK}, {"-7", api.OK}, {"9223372036854775808", api.OK},
+		{strings.Repeat("9", api.MaxDigits), api.OK}, {"-" + strings.Repeat("9", api.MaxDigits), api.OK},
+		{"1" + strings.Repeat("0", api.MaxDigits), api.ErrNumber}, {"-1" + strings.Repeat("0", api.MaxDigits), api.ErrNumber},
+	} {
+		if e := number.From(api.Int(c.digits)).Check(); e != c.want {
+			t.Errorf("Check of %s = %d", c.digits, e)
 		}
 	}
 }
@@ -157,5 +174,24 @@ func TestRows(t *testing.T) {
 	}
 	if got, e := number.Matrix(append(rows, less, number.Row{number.Of(api.MaxEntry + 1)})); e != api.ErrLimit || got != nil {
 		t.Errorf("Matrix = %v, %d", got, e)
+	}
+}
+
+func TestTranspose(t *testing.T) {
+	for _, c := range []struct {
+		m       api.Matrix
+		columns int
+		want    api.Matrix
+	}{
+		{api.Matrix{{1, 2, 3}, {4, 5, 6}}, 3, api.Matrix{{1, 4}, {2, 5}, {3, 6}}},
+		{api.Matrix{{1}, {2}}, 1, api.Matrix{{1, 2}}},
+		{api.Matrix{{}, {}}, 0, nil},
+		{nil, 2, api.Matrix{{}, {}}},
+	} {
+		rows := number.Transpose(number.FromMatrix(c.m), c.columns)
+		got, e := number.Matrix(rows)
+		if e != api.OK || !slices.EqualFunc(got, c.want, func(a, b api.Row) bool { return slices.Equal(a, b) }) {
+			t.Errorf("Transpose(%v) = %v, %d", c.m, got, e)
+		}
 	}
 }

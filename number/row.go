@@ -94,6 +94,17 @@ func Beside(a, b []Row) []Row {
 	return rows
 }
 
+// Transpose returns rows with rows and columns exchanged.
+func Transpose(rows []Row, columns int) []Row {
+	out := make([]Row, columns)
+	for j := range columns {
+		for _, r := range rows {
+			out[j] = append(out[j], r[j])
+		}
+	}
+	return out
+}
+
 // Dot returns the sum of the products of two rows of the same length.
 func Dot(r, s Row) Number {
 	var sum Number

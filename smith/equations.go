@@ -29,14 +29,7 @@ func Kernel(m api.Matrix) (api.Matrix, api.Errno) {
 	if e := table.Check(m); e != api.OK {
 		return nil, e
 	}
-	width := table.Columns(m)
-	var kernel []number.Row
-	for column, r := range echelon.Pivots(echelon.WithMultiples(number.FromMatrix(m))) {
-		if column >= width {
-			kernel = append(kernel, r[width:])
-		}
-	}
-	return number.Matrix(kernel)
+	return number.Matrix(echelon.Kernel(number.FromMatrix(m)))
 }
 
 // checkRow returns the error of a matrix, and of a row that must have as many elements as its rows.

@@ -9,13 +9,13 @@ const farthest = 50
 func (r *reduction) mix() {
 	for i := range min(len(r.left), len(r.right)) {
 		r.matrix, r.left = normal(r.matrix, r.left)
-		columns := transposed(r.matrix, len(r.right))
+		columns := number.Transpose(r.matrix, len(r.right))
 		for j := i + 1; j < len(columns); j++ {
 			multiple := mixing(columns[i][i:], columns[j][i:])
 			columns[i] = number.Less(columns[i], multiple, columns[j])
 			r.right[i] = number.Less(r.right[i], multiple, r.right[j])
 		}
-		r.matrix = transposed(columns, len(r.left))
+		r.matrix = number.Transpose(columns, len(r.left))
 	}
 }
 

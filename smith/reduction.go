@@ -53,9 +53,9 @@ func (r *reduction) factors() number.Row {
 func (r *reduction) diagonalize() {
 	for {
 		r.matrix, r.left = normal(r.matrix, r.left)
-		columns := transposed(r.matrix, len(r.right))
+		columns := number.Transpose(r.matrix, len(r.right))
 		columns, r.right = normal(columns, r.right)
-		r.matrix = transposed(columns, len(r.left))
+		r.matrix = number.Transpose(columns, len(r.left))
 		if r.isDiagonal() {
 			return
 		}
@@ -110,15 +110,4 @@ func (r *reduction) merge(i, j int) {
 // sum returns the sum of two rows, each times its factor.
 func sum(s, t number.Number, a, b number.Row) number.Row {
 	return number.Combine(a, b, func(x, y number.Number) number.Number { return x.Mul(s).Add(y.Mul(t)) })
-}
-
-// transposed returns rows with rows and columns exchanged.
-func transposed(rows []number.Row, columns int) []number.Row {
-	out := make([]number.Row, columns)
-	for j := range columns {
-		for i := range len(rows) {
-			out[j] = append(out[j], rows[i][j])
-		}
-	}
-	return out
 }

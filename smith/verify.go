@@ -36,8 +36,8 @@ func isUnimodular(m api.Matrix) bool {
 
 // product returns left times m times right. The product of the first two can be too great for table.Mul, though that of all is not.
 func product(m, left, right api.Matrix) []number.Row {
-	columns := transposed(number.FromMatrix(right), len(right))
-	rows := times(number.FromMatrix(left), transposed(number.FromMatrix(m), len(right)))
+	columns := number.Transpose(number.FromMatrix(right), len(right))
+	rows := times(number.FromMatrix(left), number.Transpose(number.FromMatrix(m), len(right)))
 	return times(rows, columns)
 }
 
