@@ -115,8 +115,11 @@ func Abs(x api.Rational) api.Rational {
 	return api.Rational{Num: whole.Abs(x.Num), Den: x.Den}
 }
 
-// Sum returns the sum of a list.
+// Sum returns the sum of a list. Its halves are added, so that few of the sums on the way are long.
 func Sum(l []api.Rational) api.Rational {
+	if half := len(l) / 2; half > 1 {
+		return Add(Sum(l[:half]), Sum(l[half:]))
+	}
 	total := api.Rational{Num: "0", Den: "1"}
 	for _, x := range l {
 		total = Add(total, x)

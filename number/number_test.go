@@ -195,3 +195,25 @@ func TestTranspose(t *testing.T) {
 		}
 	}
 }
+
+func TestSides(t *testing.T) {
+	for _, c := range []struct {
+		numbers, exponents []int
+		above, below       api.Int
+	}{
+		{nil, nil, "1", "1"},
+		{[]int{2, 3, 5}, []int{0, 0, 0}, "1", "1"},
+		{[]int{2, 3, 5}, []int{-4, 4, -1}, "81", "80"},
+		{[]int{2, 97}, []int{64, -1}, "18446744073709551616", "97"},
+		{[]int{7, 11}, []int{-1, -30}, "1", "122145815882204851229911626276607"},
+	} {
+		if sides := number.Sides(c.numbers, c.exponents); sides != [2]api.Int{c.above, c.below} {
+			t.Errorf("Sides(%v, %v) = %v", c.numbers, c.exponents, sides)
+		}
+	}
+	long := number.Sides([]int{89, 97, 2}, []int{1000, 1000, -1000})
+	want := new(big.Int).Exp(big.NewInt(89*97), big.NewInt(1000), nil)
+	if string(long[0]) != want.String() || string(long[1]) != new(big.Int).Lsh(big.NewInt(1), 1000).String() {
+		t.Errorf("Sides of long powers = %v", long)
+	}
+}
