@@ -29,6 +29,26 @@ refine:
 	return sign
 }
 
+// Compare returns the sign of the difference of two such sums, whose factors are ints of at most 2 to the power 15, without the sign.
+func Compare(p api.Primes, x, y api.Row) int {
+	// The table in ints decides nearly always: the sum is too low by less than the factors greater than 0, or too high by less than the others.
+	total, most := 0, 0
+	for i, n := range p {
+		difference := x[i] - y[i]
+		total += difference * lows[n]
+		most += max(difference, -difference)
+	}
+	switch {
+	case most == 0:
+		return 0
+	case total >= most:
+		return 1
+	case total <= -most:
+		return -1
+	}
+	return Sign(p, number.Combine(number.FromRow(x), number.FromRow(y), number.Number.Sub))
+}
+
 // Floor returns the greatest integer that is not greater than the quotient of two such sums; not all factors of b are 0.
 func Floor(p api.Primes, a, b number.Row) number.Number {
 	if floor, is := proportion(a, b); is {

@@ -221,6 +221,46 @@ func TestSignNearZero(t *testing.T) {
 	}
 }
 
+func TestCompare(t *testing.T) {
+	r := rand.New(rand.NewPCG(15, 1))
+	for _, p := range lists() {
+		for _, most := range []int{0, 1, 3, 50, 1000, 1 << 15} {
+			for range 40 {
+				x, y := make(api.Row, len(p)), make(api.Row, len(p))
+				for i := range p {
+					x[i], y[i] = r.IntN(2*most+1)-most, r.IntN(2*most+1)-most
+				}
+				difference := number.Combine(number.FromRow(x), number.FromRow(y), number.Number.Sub)
+				if got := Compare(p, x, y); got != Sign(p, difference) || Compare(p, y, x) != -got || Compare(p, x, x) != 0 {
+					t.Errorf("Compare(%v, %v, %v) = %d", p, x, y, got)
+				}
+			}
+		}
+		// The greatest sums have room.
+		greatest, least := slices.Repeat(api.Row{1 << 15}, len(p)), slices.Repeat(api.Row{-1 << 15}, len(p))
+		if Compare(p, greatest, least) != 1 || Compare(p, least, greatest) != -1 {
+			t.Errorf("Compare(%v) of the greatest sums", p)
+		}
+	}
+}
+
+// Differences that the table does not decide, by the products of powers.
+func TestCompareNear(t *testing.T) {
+	two, three, six := api.Primes{2, 3}, api.Primes{2, 3, 5}, api.Primes{2, 3, 5, 7, 11, 13}
+	for _, c := range []struct {
+		p api.Primes
+		x api.Row
+	}{
+		{two, api.Row{-19, 12}}, {two, api.Row{-84, 53}}, {two, api.Row{-1054, 665}}, {two, api.Row{-24727, 15601}}, {three, api.Row{-90, -15, 49}},
+		{six, api.Row{-178, -449, 439, 153, 140, -282}}, {six, api.Row{242, -101, -457, 501, -131, 7}}, {six, api.Row{374, 195, 18, 33, -339, 96}}, {six, api.Row{397, -513, -204, -440, 426, 176}},
+	} {
+		zero, want := make(api.Row, len(c.x)), powers(c.p, c.x)
+		if Compare(c.p, c.x, zero) != want || Compare(c.p, zero, c.x) != -want {
+			t.Errorf("Compare(%v, %v) is not %d", c.p, c.x, want)
+		}
+	}
+}
+
 // isFloor reports whether n is the greatest integer not greater than the quotient of a and b: a less n b has the sign of b, or is 0, and a less n + 1 times b has the other sign.
 func isFloor(p api.Primes, a, b number.Row, n number.Number) bool {
 	rest := number.Less(a, n, b)

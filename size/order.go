@@ -14,7 +14,7 @@ func Sign(p api.Primes, a api.Size) (int, api.Errno) {
 	if e := check(p, a); e != api.OK {
 		return 0, e
 	}
-	return logarithm.Sign(p, common(a)[0]), api.OK
+	return logarithm.Sign(p, numerators(a)[0]), api.OK
 }
 
 // Compare returns the sign of a less b.
@@ -27,8 +27,14 @@ func Compare(p api.Primes, a, b api.Size) (int, api.Errno) {
 
 // compare does so with sizes that are right.
 func compare(p api.Primes, a, b api.Size) int {
-	rows := common(a, b)
+	rows := numerators(a, b)
 	return logarithm.Sign(p, number.Combine(rows[0], rows[1], number.Number.Sub))
+}
+
+// numerators returns those of sizes over one denominator of all of them, which neither signs nor quotients depend on.
+func numerators(l ...api.Size) []number.Row {
+	rows, _ := number.Common(l...)
+	return rows
 }
 
 // Abs returns the size or its negative, the one that is at least 0.
@@ -66,7 +72,7 @@ func floor(p api.Primes, a, b api.Size, of func(a, b number.Row) (above, below n
 	if e := check(p, a, b); e != api.OK {
 		return "", e
 	}
-	rows := common(a, b)
+	rows := numerators(a, b)
 	if rows[1].Pivot() < 0 {
 		return "", api.ErrZero
 	}
@@ -85,23 +91,4 @@ func Sort(p api.Primes, l []api.Size) ([]int, api.Errno) {
 	}
 	slices.SortStableFunc(order, func(i, j int) int { return compare(p, l[i], l[j]) })
 	return order, api.OK
-}
-
-// common returns the numerators of sizes over one denominator of all of them.
-func common(l ...api.Size) []number.Row {
-	denominator := number.Of(1)
-	for _, a := range l {
-		for _, x := range a {
-			den := number.From(x.Den)
-			denominator = denominator.Mul(den.Quotient(number.Gcd(denominator, den)))
-		}
-	}
-	rows := make([]number.Row, len(l))
-	for i, a := range l {
-		rows[i] = make(number.Row, len(a))
-		for j, x := range a {
-			rows[i][j] = number.From(x.Num).Mul(denominator.Quotient(number.From(x.Den)))
-		}
-	}
-	return rows
 }
