@@ -82,7 +82,7 @@ func limited() []struct {
 	}{{api.Primes{2, 3}, of("-19", "12"), 9}, {api.Primes{2, 3}, of("19", "-12"), 9}, {api.Primes{2, 3}, of("-40583281278899710574680154882", "25605199656417336413383685835"), 0}}
 }
 
-// P14.3, P14.5: no size is known that 1000 bits do not decide, but fewer bits do not, either, where they are the limit.
+// P14.3, P14.5: these tests have no size that 1000 bits do not decide, so that the errors are those of lesser limits.
 func TestLimits(t *testing.T) {
 	for i, c := range limited() {
 		sum := newCombination(c.p, c.s)
