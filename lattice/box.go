@@ -4,6 +4,7 @@ import (
 	"slices"
 
 	"schisma/api"
+	"schisma/number"
 )
 
 // Box returns all rows of a lattice whose elements are from -most to most.
@@ -14,25 +15,12 @@ func Box(l Lattice, most int) ([]api.Row, api.Errno) {
 	if most < 0 {
 		return nil, api.ErrRange
 	}
-	if hasMany(most, len(l.Basis)) {
+	if number.BoxExceeds(most, len(l.Basis), MaxBox) {
 		return nil, api.ErrLimit
 	}
 	b := box{most: most, steps: l.steps()}
 	b.search(make(api.Row, l.Columns), 0)
 	return b.found, api.OK
-}
-
-// hasMany reports whether a box has more candidates than are allowed: a number from -most to most for each row of the basis.
-func hasMany(most, rank int) bool {
-	width := 2*min(most, MaxBox) + 1
-	candidates := 1
-	for range rank {
-		candidates *= width
-		if candidates > MaxBox {
-			return true
-		}
-	}
-	return false
 }
 
 // step is a row of a basis with the columns that are settled as soon as its multiple is chosen: those from its pivot on, up to the next one.
